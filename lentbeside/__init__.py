@@ -1,0 +1,1 @@
+"""Lentbeside: what must lie beside so that a trade can be done."""

@@ -52,7 +52,10 @@ def market_error(value):
 
 def holds(bag, other):
     """Whether bag has at least as many of each good as other."""
-    return all([many >= few for many, few in zip(bag, other)])
+    for many, few in zip(bag, other):
+        if many < few:
+            return False
+    return True
 
 
 def exchange(stock, taken, added):

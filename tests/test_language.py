@@ -13,6 +13,10 @@ INTERFACE = {
         "OverCap", "NothingToUndo", "NoTrade",
     ),
     "markets": ("market_error", "walk", "each_near", "shortest"),
+    "texts": ("market_text", "read_market"),
+    "lists": ("plainer", "fall", "list_error"),
+    "even": ("the_list", "plainest", "even"),
+    "papers": ("chain_paper", "parting_paper", "is_chain", "is_parting"),
 }
 BARRED_WORDS = (
     "type", "typing", "typing_extensions", "enum", "Enum", "IntEnum", "StrEnum", "Flag", "IntFlag", "Generic",

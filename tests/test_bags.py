@@ -142,6 +142,18 @@ class BagTest(unittest.TestCase):
                     self.assert_bag(Bag.of(goods=goods, good=good, many=many), amounts)
                     self.assert_bag(Bag((1,)).of(goods, good, many), amounts)
 
+    def test_equal_calls(self):
+        for one, other in PAIRS[::7]:
+            if len(one) == len(other):
+                x, y = Bag(one), Bag(other)
+                for work in (Bag.__add__, Bag.__or__, Bag.__and__, Bag.__contains__, Bag.__eq__):
+                    self.assertEqual(work(x, y), work(Bag(one), Bag(other)))
+                    self.assertEqual(work(x, y), work(x, y))
+                self.assertEqual(x * 3, Bag(one) * 3)
+                self.assertEqual(x | y, y | x)
+                self.assert_bag(x, one)
+                self.assert_bag(y, other)
+
     def test_limit(self):
         self.assertEqual(Bag.LIMIT, MAX_GOODS)
         self.assertEqual(Bag((1,)).LIMIT, MAX_GOODS)

@@ -552,6 +552,9 @@ class EqualTest(DeskCase):
         self.assertIs(capped == one, False)
         # The same stock, but nothing is owed.
         self.assertIs(one == Desk(W, Bag((2, 1))), False)
+        # Nothing is owed at either, but the stocks are unlike.
+        self.assertIs(Desk(W, Bag((1, 1))) == other, False)
+        self.assertIs(Desk(W, Bag((1, 1))) != other, True)
         capped += Bag((0, 1))
         self.assertIs(one == capped, True)
         self.assertIs(Desk((2, ()), Bag((2, 0))) == other, False)
@@ -634,6 +637,28 @@ class RowsOfDeedsTest(DeskCase):
         kinds = {"done", NoTrade, BadTimes, Lacking, TooMuch, BadBag, NotOwed, NothingToUndo, OverCap}
         self.assertEqual(set(seen), kinds)
         self.assertGreater(min(seen.values()), 20)
+
+    def test_equal_rows_of_deeds(self):
+        market, start, loan = copy.deepcopy(W), Bag((3, 1)), Bag((1, 2))
+
+        def work(d):
+            d.undo()
+            d.pay(Bag((0, 1)))
+            d.pay(loan)
+
+        def row(desk):
+            return [
+                told(desk.borrow, loan), told(desk.trade, 0, times=2), told(desk.trade, 5), told(desk.attempt, work),
+                told(desk.pay, loan), [bag.amounts for bag in desk.loans(start)], told(desk.undo), str(desk),
+            ]
+
+        for make in (lambda: Desk(market, start), lambda: CappedDesk(market, start, 3)):
+            one, other = make(), make()
+            expected = row(one)
+            self.assertEqual(row(other), expected)
+            self.assertEqual(one, other)
+            self.assertEqual(one.loans(start), other.loans(start))
+        self.assertEqual((market, start.amounts, loan.amounts), (W, (3, 1), (1, 2)))
 
     def test_desks_are_apart(self):
         stock = Bag((2, 0))
